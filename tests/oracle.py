@@ -1,0 +1,129 @@
+"""What the tests share: trees as nested pairs, worked out by recursion, wrong values, and a limit of time."""
+
+import contextlib
+import signal
+
+# Values of every kind that [2] calls "any value". None of them is a tree, an address, a script or the text of one.
+WRONG = [
+    None, True, False, 0, 1, -1, 7, 10 ** 30,
+    "x", "L", "lrx", "l.", "()", "(.)", "(..", "..)", "(...)", "(..))", "..", "(..)(..)", "( ..)", "\u2024", "((..)..)",
+    (), (".",), ("l",), ("right", ""), (("right", ""),), (None, (1, ("l",))),
+    {}, {"l": "r"}, {1: [(), {"a": None}]},
+    [None], ["l"], [["right", ""]], [[], [[]]], [("right",)], [("right", "", "")], [("up", "")], [("right", "x")],
+]
+
+
+def shapes(nodes):
+    """All trees with so many nodes, as nested pairs; a leaf is None."""
+    if nodes == 0:
+        return [None]
+    return [(left, right) for many in range(nodes) for left in shapes(many) for right in shapes(nodes - 1 - many)]
+
+
+def text(tree):
+    return "." if tree is None else "(" + text(tree[0]) + text(tree[1]) + ")"
+
+
+def texts(nodes):
+    """The texts of all trees with at most so many nodes."""
+    return [text(tree) for many in range(nodes + 1) for tree in shapes(many)]
+
+
+def read(tree):
+    """The nested pairs of a text; only for texts of trees."""
+    def from_here(at):
+        if tree[at] == ".":
+            return None, at + 1
+        left, middle = from_here(at + 1)
+        right, end = from_here(middle)
+        return (left, right), end + 1
+    return from_here(0)[0]
+
+
+def all_parts(tree, address=""):
+    """(address, part) of all parts, each node between what is to its left and to its right."""
+    if tree is None:
+        return [(address, tree)]
+    return all_parts(tree[0], address + "l") + [(address, tree)] + all_parts(tree[1], address + "r")
+
+
+def put(tree, address, other):
+    if address == "":
+        return other
+    if address[0] == "l":
+        return (put(tree[0], address[1:], other), tree[1])
+    return (tree[0], put(tree[1], address[1:], other))
+
+
+def depth(tree):
+    return 0 if tree is None else 1 + max(depth(tree[0]), depth(tree[1]))
+
+
+def fill(tree, trees):
+    """The tree grown by a list of trees, which is used up."""
+    if tree is None:
+        return trees.pop(0)
+    left = fill(tree[0], trees)
+    return (left, fill(tree[1], trees))
+
+
+def below(tree, top):
+    """The list by which the top grows into the tree, or None."""
+    if top is None:
+        return [tree]
+    if tree is None:
+        return None
+    left, right = below(tree[0], top[0]), below(tree[1], top[1])
+    return None if left is None or right is None else left + right
+
+
+def step(tree, word, address):
+    """The tree after a rotation, or None."""
+    here = dict(all_parts(tree)).get(address)
+    if here is None:
+        return None
+    left, right = here
+    if word == "right" and left is not None:
+        return put(tree, address, (left[0], (left[1], right)))
+    if word == "left" and right is not None:
+        return put(tree, address, ((left, right[0]), right[1]))
+    return None
+
+
+def run(tree, script):
+    """The tree after a script, or the index of the step that cannot be done."""
+    for index, (word, address) in enumerate(script):
+        tree = step(tree, word, address)
+        if tree is None:
+            return index
+    return tree
+
+
+def addresses(letters):
+    """All addresses of at most so many letters."""
+    if letters == 0:
+        return [""]
+    return [""] + [letter + rest for letter in "lr" for rest in addresses(letters - 1)]
+
+
+def leaning(nodes, side):
+    """A text whose nodes all lean to the left, to the right, or to and fro ("z")."""
+    tree = "."
+    for k in range(nodes):
+        left = side == "l" or side == "z" and k % 2
+        tree = "(" + tree + ".)" if left else "(." + tree + ")"
+    return tree
+
+
+@contextlib.contextmanager
+def within(seconds):
+    """Fail if the rows take longer, also if they would never end."""
+    def late(number, frame):
+        raise AssertionError(f"longer than {seconds} seconds")
+    before = signal.signal(signal.SIGALRM, late)
+    signal.setitimer(signal.ITIMER_REAL, seconds)
+    try:
+        yield
+    finally:
+        signal.setitimer(signal.ITIMER_REAL, 0)
+        signal.signal(signal.SIGALRM, before)

@@ -1,0 +1,1 @@
+"""Rotations of binary trees, decided for all trees."""
