@@ -1,7 +1,4 @@
-"""The errors of the package.
-
-Their messages leave out what the fields hold: a wrong argument may be nested too deeply to be shown.
-"""
+"""The errors of the package; their fields hold what was wrong, as it was passed."""
 
 
 class TurnError(ValueError):
@@ -12,7 +9,6 @@ class InvalidTree(TurnError):
     """An argument that has to be a tree is none."""
 
     def __init__(self, value=None):
-        super().__init__("not a tree")
         self.value = value
 
 
@@ -20,7 +16,6 @@ class InvalidAddress(TurnError):
     """An argument that has to be an address, or one that leads to a part, is none."""
 
     def __init__(self, value=None):
-        super().__init__("not an address, or not one that leads to a part")
         self.value = value
 
 
@@ -28,7 +23,6 @@ class InvalidNumber(TurnError):
     """A number or a fraction does not fit."""
 
     def __init__(self, value=None):
-        super().__init__("not a number that fits")
         self.value = value
 
 
@@ -36,7 +30,6 @@ class InvalidList(TurnError):
     """A list does not fit."""
 
     def __init__(self, value=None):
-        super().__init__("not a list that fits")
         self.value = value
 
 
@@ -44,7 +37,6 @@ class InvalidScript(TurnError):
     """An argument that has to be a script, or its text, is none."""
 
     def __init__(self, value=None):
-        super().__init__("not a script, or not the text of one")
         self.value = value
 
 
@@ -52,7 +44,6 @@ class InvalidMove(TurnError):
     """An argument that has to be a move is none."""
 
     def __init__(self, value=None):
-        super().__init__("not a move")
         self.value = value
 
 
@@ -60,7 +51,6 @@ class CannotTurn(TurnError):
     """A step of a script cannot be done; the place is its index."""
 
     def __init__(self, place=None):
-        super().__init__("a step cannot be done")
         self.place = place
 
 
@@ -68,7 +58,6 @@ class CannotMove(TurnError):
     """A move cannot be done on a tree."""
 
     def __init__(self, value=None):
-        super().__init__("the move cannot be done on the tree")
         self.value = value
 
 
@@ -76,7 +65,6 @@ class NotCarried(TurnError):
     """A part is not carried as a whole by a move."""
 
     def __init__(self, address=None):
-        super().__init__("the part is not carried as a whole")
         self.address = address
 
 
@@ -84,7 +72,6 @@ class InvalidName(TurnError):
     """A name has not the form of one."""
 
     def __init__(self, name=None):
-        super().__init__("not a name")
         self.name = name
 
 
@@ -92,7 +79,6 @@ class TakenName(TurnError):
     """A name is kept already."""
 
     def __init__(self, name=None):
-        super().__init__("the name is kept already")
         self.name = name
 
 
@@ -100,12 +86,9 @@ class UnknownName(TurnError):
     """A name is not kept."""
 
     def __init__(self, name=None):
-        super().__init__("the name is not kept")
         self.name = name
 
 
 class NothingToUndo(TurnError):
     """Nothing has been done that could be undone."""
 
-    def __init__(self):
-        super().__init__("nothing to undo")
