@@ -1,16 +1,25 @@
 """What the tests share: trees as nested pairs, worked out by recursion, wrong values, and a limit of time."""
 
 import contextlib
+import fractions
+import itertools
+import random
 import signal
 
-# Values of every kind that [2] calls "any value". None of them is a tree, an address, a script or the text of one.
-WRONG = [
+from treeturns.moves import Move
+
+# Values of every kind that [2] calls "any value", but for moves. None of them is a tree, an address, a script or the
+# text of one.
+NO_MOVES = [
     None, True, False, 0, 1, -1, 7, 10 ** 30,
     "x", "L", "lrx", "l.", "()", "(.)", "(..", "..)", "(...)", "(..))", "..", "(..)(..)", "( ..)", "\u2024", "((..)..)",
     (), (".",), ("l",), ("right", ""), (("right", ""),), (None, (1, ("l",))),
     {}, {"l": "r"}, {1: [(), {"a": None}]},
     [None], ["l"], [["right", ""]], [[], [[]]], [("right",)], [("right", "", "")], [("up", "")], [("right", "x")],
+    [Move("(..)", "(..)")], (Move(".", "."), Move(".", ".")), {"move": Move(".", ".")}, [("right", Move(".", "."))],
+    [(Move(".", "."), "")], (Move(".", "."),),
 ]
+WRONG = NO_MOVES + [Move(".", "."), Move("((..).)", "(.(..))")]
 
 
 def shapes(nodes):
@@ -104,6 +113,69 @@ def addresses(letters):
     if letters == 0:
         return [""]
     return [""] + [letter + rest for letter in "lr" for rest in addresses(letters - 1)]
+
+
+def moves(nodes):
+    """All moves with at most so many nodes in each tree."""
+    return [Move(text(before), text(after)) for many in range(nodes + 1)
+            for before, after in itertools.product(shapes(many), repeat=2)]
+
+
+def any_tree(nodes, chance):
+    """The text of a tree by chance."""
+    if nodes == 0:
+        return "."
+    many = chance.randrange(nodes)
+    return "(" + any_tree(many, chance) + any_tree(nodes - 1 - many, chance) + ")"
+
+
+def any_moves(many, nodes, seed):
+    """Moves by chance, the same ones in each run."""
+    chance = random.Random(seed)
+    return [Move(any_tree(nodes, chance), any_tree(nodes, chance)) for _ in range(many)]
+
+
+def done(move, tree):
+    """What the move makes of a text, or None."""
+    trees = below(read(tree), read(move.before))
+    return None if trees is None else text(fill(read(move.after), trees))
+
+
+def stretches(tree, start=fractions.Fraction(0), end=fractions.Fraction(1)):
+    """The ends of the stretches of all leaves."""
+    if tree is None:
+        return [(start, end)]
+    middle = (start + end) / 2
+    return stretches(tree[0], start, middle) + stretches(tree[1], middle, end)
+
+
+def line(move):
+    """The line of a move, as a function."""
+    rows = list(zip(stretches(read(move.before)), stretches(read(move.after))))
+
+    def at(number):
+        (start, end), (low, high) = next(row for row in rows if number <= row[0][1])
+        return low + (number - start) * (high - low) / (end - start)
+    return at
+
+
+def corners(move):
+    """Where the line of a move may bend, and both ends."""
+    return [fractions.Fraction(0)] + [end for start, end in stretches(read(move.before))]
+
+
+def stretch_of(address):
+    """The ends of what an address stands for."""
+    start, end = fractions.Fraction(0), fractions.Fraction(1)
+    for letter in address:
+        middle = (start + end) / 2
+        start, end = (start, middle) if letter == "l" else (middle, end)
+    return start, end
+
+
+def plain(number):
+    """The fraction of the document."""
+    return number.numerator, number.denominator
 
 
 def leaning(nodes, side):

@@ -1,4 +1,4 @@
-"""Promises [1], [2] and [3] for the modules that have landed, and the names of the interface."""
+"""Promises [1] and [2] for the modules that have landed, [3] for trees and scripts, and the names of the interface."""
 
 import copy
 import importlib
@@ -7,12 +7,20 @@ import random
 import unittest
 
 import oracle
-from treeturns.errors import CannotTurn, InvalidAddress, InvalidList, InvalidScript, InvalidTree
+from treeturns.arms import arm_script, counts, from_counts, normal, off_arm, shortest
+from treeturns.errors import (CannotMove, CannotTurn, InvalidAddress, InvalidList, InvalidMove, InvalidNumber,
+                              InvalidScript, InvalidTree, NotCarried, TurnError)
+from treeturns.moves import Move, alike, parting, unmoved, widest
+from treeturns.places import after, carried, compare, drifts, fixed, span
+from treeturns.places import value as value_of
 from treeturns.scripts import lowered, opposite, pair_of, read_script, steps_of, text_of, turned
 from treeturns.trees import grown, height, hung, is_tree, joined, leaves, nodes, part, replaced, shared, size
 
+UP, STILL = Move("((..).)", "(.(..))"), Move(".", ".")
+TWICE = Move("(((..).).)", "(.(.(..)))")
+
 # Each function with arguments in the order and by the names of the interface, and the result.
-CALLS = [
+FUNCTIONS = [
     (is_tree, {"value": "(..)"}, True),
     (size, {"tree": "((..).)"}, 2),
     (height, {"tree": "((..).)"}, 2),
@@ -31,12 +39,45 @@ CALLS = [
     (lowered, {"steps": [("right", "l")], "address": "r"}, [("right", "rl")]),
     (text_of, {"steps": [("right", "l")]}, ">l"),
     (read_script, {"text": ">l"}, [("right", "l")]),
+    (alike, {"one": UP, "other": STILL}, False),
+    (parting, {"one": UP, "other": STILL}, ("((..).)", "(.(..))", "((..).)")),
+    (widest, {"move": UP * ~UP * UP}, UP),
+    (unmoved, {"move": Move("(((..).).)", "((.(..)).)")}, ["r"]),
+    (off_arm, {"tree": "((..).)"}, 1),
+    (counts, {"tree": "((..).)"}, [1, 0, 0]),
+    (arm_script, {"move": TWICE}, [("right", ""), ("right", "")]),
+    (from_counts, {"ups": [2], "downs": [1]}, UP),
+    (normal, {"move": UP}, ([1], [])),
+    (shortest, {"move": TWICE, "places": ["r", ""], "most": 3}, [("right", ""), ("right", "")]),
+    (span, {"address": "rl"}, ((1, 2), (3, 4))),
+    (value_of, {"move": UP, "place": (1, 2)}, (3, 4)),
+    (carried, {"move": UP, "address": "llr"}, "lr"),
+    (after, {"move": UP, "address": "lll", "times": 2}, ("l", "", 0, "")),
+    (fixed, {"move": UP}, [((0, 1), (0, 1)), ((1, 1), (1, 1))]),
+    (drifts, {"move": UP}, ["up"]),
+    (compare, {"one": STILL, "other": UP}, -1),
 ]
+
+# The same for classes and methods.
+METHODS = [
+    (Move, {"before": "((..).)", "after": "(.(..))"}, UP),
+    (Move.of, {"steps": [("right", "")]}, UP),
+    (UP, {"tree": "(((..).).)"}, "((..)(..))"),
+    (UP.can, {"tree": "(((..).).)"}, True),
+    (UP.times, {"count": 2}, TWICE),
+    (UP.under, {"address": "l"}, Move("(((..).).)", "((.(..)).)")),
+]
+CALLS = FUNCTIONS + METHODS
 
 INTERFACE = {
     "treeturns.trees": "is_tree size height part leaves nodes replaced grown hung joined shared",
     "treeturns.scripts": "turned steps_of pair_of opposite lowered text_of read_script",
+    "treeturns.moves": "alike parting widest unmoved",
+    "treeturns.arms": "off_arm counts arm_script from_counts normal shortest",
+    "treeturns.places": "span value carried after fixed drifts compare",
 }
+OWN_OF_MOVE = """before after of __call__ can __eq__ __mul__ __invert__ times __lt__ __le__ __gt__ __ge__ __repr__
+under""".split()
 
 # Marks for Order.check: a wrong value stands here; and another one stands here, which comes too late to be named.
 WRONG, LATER = object(), object()
@@ -53,7 +94,12 @@ class Interface(unittest.TestCase):
 
     def test_every_function_is_among_the_calls(self):
         named = [name for names in INTERFACE.values() for name in names.split()]
-        self.assertEqual([call.__name__ for call, _, _ in CALLS], named)
+        self.assertEqual([call.__name__ for call, _, _ in FUNCTIONS], named)
+
+    def test_the_class_and_its_own_methods(self):
+        self.assertEqual(Move.__module__, "treeturns.moves")
+        self.assertTrue(set(OWN_OF_MOVE) <= set(vars(Move)))
+        self.assertEqual(Move.__bases__, (object,))
 
 
 class Calls(unittest.TestCase):
@@ -61,12 +107,12 @@ class Calls(unittest.TestCase):
 
     def test_by_position(self):
         for call, arguments, result in CALLS:
-            with self.subTest(call.__name__):
+            with self.subTest(str(call)):
                 self.assertEqual(call(*arguments.values()), result)
 
     def test_by_name_in_another_order(self):
         for call, arguments, result in CALLS:
-            with self.subTest(call.__name__):
+            with self.subTest(str(call)):
                 self.assertEqual(call(**dict(list(arguments.items())[::-1])), result)
                 first, *rest = arguments.items()
                 self.assertEqual(call(first[1], **dict(rest)), result)
@@ -83,7 +129,7 @@ class Arguments(unittest.TestCase):
         for call, arguments, _ in CALLS:
             kept = copy.deepcopy(arguments)
             call(**arguments)
-            self.assertEqual(arguments, kept, call.__name__)
+            self.assertEqual(arguments, kept, str(call))
 
     def test_wrong_arguments_are_unchanged(self):
         wrong = [[("right", ""), ["left", {"a": []}]], [".", [None]], {"a": [1]}]
@@ -93,7 +139,7 @@ class Arguments(unittest.TestCase):
                     kept = copy.deepcopy(value)
                     try:
                         call(**dict(arguments, **{name: value}))
-                    except (InvalidTree, InvalidAddress, InvalidList, InvalidScript):
+                    except TurnError:
                         pass
                     self.assertEqual(value, kept)
 
@@ -116,7 +162,34 @@ class Arguments(unittest.TestCase):
                     self.assertIsNot(first, argument)
                 first.append("mine")
                 del first[0]
-                self.assertEqual(call(**arguments), result, call.__name__)
+                self.assertEqual(call(**arguments), result, str(call))
+
+    def test_changed_arguments_have_no_effect_later(self):
+        steps, ups = [("right", "")], [1]
+        moves = [Move.of(steps), from_counts(ups, [])]
+        steps.append(("left", "lll"))
+        ups[0] = 7
+        self.assertEqual(moves, [UP, UP])
+
+    def test_moves_are_unchanged_by_calls(self):
+        move = Move("((.(..)).)", "((..)(..))")
+        places = ["", "r"]
+        move("((.(..)).)"), move.can("."), move.times(-3), move.under("r"), move * move, ~move, move < move * move
+        alike(move, UP), parting(move, UP), widest(move), unmoved(move), arm_script(move), normal(move)
+        shortest(move, places, 5), value_of(move, (1, 2)), carried(move, "ll"), after(move, "rr", 9), fixed(move)
+        drifts(move), compare(move, UP)
+        for call in (lambda: move("."), lambda: move.times(None), lambda: carried(move, "")):
+            with self.assertRaises(TurnError):
+                call()
+        self.assertEqual([move, places], [Move("((.(..)).)", "((..)(..))"), ["", "r"]])
+
+    def test_no_list_occurs_twice(self):
+        for move in (STILL, UP, ~UP):
+            for found in (normal(move), normal(move)):
+                self.assertIsNot(found[0], found[1])
+        first = normal(UP)
+        first[0].append(5)
+        self.assertEqual(normal(UP), ([1], []))
 
     def test_lists_that_could_be_the_argument_are_new(self):
         steps = [("right", "l")]
@@ -131,7 +204,7 @@ class Arguments(unittest.TestCase):
     def test_kinds_of_results(self):
         for call, arguments, result in CALLS:
             found = call(**arguments)
-            self.assertIs(type(found), type(result), call.__name__)
+            self.assertIs(type(found), type(result), str(call))
             if isinstance(found, (list, tuple)):
                 self.assertEqual([type(item) for item in found], [type(item) for item in result])
 
@@ -146,6 +219,13 @@ class Arguments(unittest.TestCase):
             found += [item for step in steps for item in step]
         found += [text_of([(Text("right"), Text("l"))]), read_script(Text(">l"))[0][1]]
         found += list(pair_of([(Text("right"), Text("l"))]))
+        move = Move(Text("((..).)"), Text("(.(..))"))
+        scripted = Move.of([(Text("right"), Text(""))])
+        for made in (move, ~move, move.under(Text("")), scripted, widest(move), move.times(1)):
+            found += [made.before, made.after, made(Text(made.before)), repr(made)]
+        found += [carried(move, Text("ll")), carried(STILL, tree.__class__("l")), *unmoved(STILL), *drifts(move)]
+        found += [item for times in (0, 1, 9) for item in after(move, Text("rl"), times) if item.__class__ is not int]
+        found += [item for step in shortest(move, [Text("")], 3) + arm_script(move) for item in step]
         self.assertEqual({type(item) for item in found}, {str})
 
 
@@ -198,6 +278,97 @@ class Order(unittest.TestCase):
         self.check(InvalidScript, 0, lowered, WRONG, "l")
         self.check(InvalidAddress, 1, lowered, [], WRONG)
 
+    def test_moves_are_refused_by_trees_and_scripts(self):
+        for move in (STILL, UP):
+            self.assertIs(is_tree(move), False)
+            for call in (size, height, leaves, nodes, steps_of, off_arm, counts):
+                self.refused(InvalidTree, move, call, move)
+            for call in (pair_of, opposite, text_of, read_script, Move.of):
+                self.refused(InvalidScript, move, call, move)
+            for call in (hung, joined, shared):
+                self.refused(InvalidTree, move, call, move, move)
+                self.refused(InvalidTree, move, call, ".", move)
+            self.refused(InvalidTree, move, part, move, move)
+            self.refused(InvalidAddress, move, part, ".", move)
+            self.refused(InvalidTree, move, replaced, move, move, move)
+            self.refused(InvalidAddress, move, replaced, ".", move, move)
+            self.refused(InvalidTree, move, replaced, ".", "", move)
+            self.refused(InvalidTree, move, grown, move, move)
+            self.refused(InvalidList, move, grown, ".", move)
+            self.refused(InvalidTree, move, turned, move, move)
+            self.refused(InvalidScript, move, turned, ".", move)
+            self.refused(InvalidScript, move, lowered, move, move)
+            self.refused(InvalidAddress, move, lowered, [], move)
+            for given in ([move], [("right", move)], [(move, "")], [(move, move)], [("right", ""), move]):
+                self.refused(InvalidScript, given, turned, ".", given)
+                self.refused(InvalidList, given, grown, ".", given)
+
+    def refused(self, error, wrong, call, *arguments):
+        with self.assertRaises(error) as caught:
+            call(*arguments)
+        self.assertIs(caught.exception.value, wrong)
+
+    def test_move(self):
+        self.check(InvalidTree, 0, Move, WRONG, LATER)
+        self.check(InvalidTree, 0, Move, WRONG, "(..)")
+        self.check(InvalidTree, 1, Move, "(..)", WRONG)
+        with self.assertRaises(InvalidMove) as caught:
+            Move(before="(..)", after=".")
+        self.assertEqual(caught.exception.value, ("(..)", "."))
+        self.check(InvalidTree, 0, UP, WRONG)
+        self.check(InvalidTree, 0, UP.can, WRONG)
+        with self.assertRaises(CannotMove) as caught:
+            UP("(..)")
+        self.assertEqual(caught.exception.value, "(..)")
+
+    def check_moves(self, call, *later):
+        """InvalidMove for the first argument, whatever the later ones are."""
+        for wrong in oracle.NO_MOVES:
+            for rest in (later, [[wrong]] * len(later)):
+                with self.assertRaises(InvalidMove) as caught:
+                    call(wrong, *rest)
+                self.assertIs(caught.exception.value, wrong)
+
+    def test_two_moves(self):
+        for call in (alike, parting, compare):
+            self.check_moves(call, UP)
+            self.check_moves(lambda wrong: call(UP, wrong))
+
+    def test_one_move(self):
+        for call in (widest, unmoved, arm_script, normal, fixed, drifts):
+            self.check_moves(call)
+
+    def test_shortest(self):
+        self.check_moves(shortest, [""], 1)
+        self.check_moves(shortest, [], 6)
+        wrongs = [wrong for wrong in oracle.WRONG if wrong != ["l"]]
+        for wrong in wrongs:
+            for most in (5, 6, [wrong]):
+                self.refused(InvalidList, wrong, shortest, UP, wrong, most)
+        self.refused(InvalidNumber, -1, shortest, UP, [""], -1)
+
+    def test_from_counts(self):
+        for wrong in [item for item in oracle.WRONG if item != []]:
+            self.refused(InvalidList, wrong, from_counts, wrong, [wrong])
+            self.refused(InvalidList, wrong, from_counts, [], wrong)
+
+    def test_value(self):
+        self.check_moves(value_of, (1, 2))
+        self.check_moves(value_of, (2, 1))
+        self.check(InvalidNumber, 1, value_of, UP, WRONG)
+
+    def test_carried_and_after(self):
+        self.check_moves(carried, "ll")
+        self.check(InvalidAddress, 1, carried, UP, WRONG)
+        self.check_moves(after, "ll", 1)
+        self.check(InvalidAddress, 1, after, UP, WRONG, LATER)
+        self.check(InvalidAddress, 1, after, UP, WRONG, 1)
+        for wrong in [item for item in oracle.WRONG if type(item) is not int]:
+            self.refused(InvalidNumber, wrong, after, UP, "", wrong)
+        with self.assertRaises(NotCarried) as caught:
+            after(UP, "", 1)
+        self.assertEqual(caught.exception.address, "")
+
     def test_values_that_hold_themselves_and_deep_ones(self):
         ring, deep = [], []
         ring.append(ring)
@@ -216,6 +387,16 @@ class Order(unittest.TestCase):
                 part(".", value)
             with self.assertRaises(InvalidList):
                 grown(".", value)
+            for call in (lambda: alike(UP, value), lambda: widest(value), lambda: after(value, value, value)):
+                with self.assertRaises(InvalidMove):
+                    call()
+            self.assertIs(UP == value, False)
+            for call in (lambda: UP.times(value), lambda: value_of(UP, value), lambda: shortest(UP, [""], value)):
+                with self.assertRaises(InvalidNumber):
+                    call()
+            for call in (lambda: shortest(UP, value, 1), lambda: from_counts(value, value)):
+                with self.assertRaises(InvalidList):
+                    call()
 
 
 class Limits(unittest.TestCase):

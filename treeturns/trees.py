@@ -126,6 +126,21 @@ def leaves(tree):
     return [address for address, sign in addressed(tree) if sign == "."]
 
 
+def from_leaves(addresses):
+    """The tree whose leaves have these addresses, from left to right."""
+    # A node begins in front of the leaf to which `l` alone leads from it, and ends behind the one of `r` alone.
+    begun = [len(address) - len(address.rstrip("l")) for address in addresses]
+    ended = [len(address) - len(address.rstrip("r")) for address in addresses]
+    return "".join(["(" * opening + "." + ")" * closing for opening, closing in zip(begun, ended)])
+
+
+def wrapped(tree, address):
+    """The smallest tree that has a given one as its part at an address."""
+    ahead = address.replace("l", "(").replace("r", "(.")
+    behind = address[::-1].replace("l", ".)").replace("r", ")")
+    return ahead + tree + behind
+
+
 def nodes(tree):
     """The addresses of all nodes, from left to right."""
     # Node k is the one whose right part begins, on the left, with leaf k.
