@@ -2,6 +2,7 @@
 
 import contextlib
 import fractions
+import functools
 import itertools
 import random
 import signal
@@ -176,6 +177,72 @@ def stretch_of(address):
 def plain(number):
     """The fraction of the document."""
     return number.numerator, number.denominator
+
+
+def grown_high(tree, heights):
+    """The height of a tree of pairs, if trees of these heights hang at its leaves, and the lean of each node."""
+    ahead, found = list(heights), []
+
+    def high(here):
+        if here is None:
+            return ahead.pop(0)
+        left = high(here[0])
+        at = len(found)
+        found.append(None)
+        right = high(here[1])
+        found[at] = left - right
+        return 1 + max(left, right)
+    return high(tree), found
+
+
+def steady(tree, heights, slack):
+    """Whether it is balanced then."""
+    return all(abs(lean) <= slack for lean in grown_high(tree, heights)[1])
+
+
+@functools.lru_cache(maxsize=None)
+def fewest(high, slack):
+    """The fewest nodes of a balanced tree of a height, by trying the heights of both parts."""
+    if high == 0:
+        return 0
+    return 1 + min(fewest(left, slack) + fewest(right, slack) for left in range(high) for right in range(high)
+                   if max(left, right) == high - 1 and abs(left - right) <= slack)
+
+
+def smallest(high, slack):
+    """A balanced tree of a height with the fewest nodes, as pairs."""
+    if high == 0:
+        return None
+    return (smallest(high - 1, slack), smallest(max(0, high - 1 - slack), slack))
+
+
+def lowest_rows(tree, slack):
+    """All rows of heights with which a tree is balanced and of which the lowest height is 0, in order."""
+    def rows(here, high):
+        if here is None:
+            return [[high]]
+        found = []
+        for left in range(high - 1 - slack, high):
+            for right in range(high - 1 - slack, high):
+                if max(left, right) == high - 1:
+                    found += [one + other for one in rows(here[0], left) for other in rows(here[1], right)]
+        return found
+    return sorted([high - min(row) for high in row] for row in rows(tree, 0))
+
+
+def steps_from(tree):
+    """(step, result) for all rotations of a tree of pairs, in order."""
+    tried = [((word, address), step(tree, word, address)) for word in ("left", "right")
+             for address, _ in sorted(all_parts(tree), key=lambda pair: pair[0])]
+    return [(turn, result) for turn, result in tried if result is not None]
+
+
+def scripts_from(tree, many):
+    """(script, result) for all scripts of so many steps that can be done on a tree of pairs, in order."""
+    found = [([], tree)]
+    for _ in range(many):
+        found = [(script + [turn], result) for script, now in found for turn, result in steps_from(now)]
+    return found
 
 
 def leaning(nodes, side):

@@ -54,6 +54,13 @@ def bound(node):
     return []
 
 
+def plainly(node):
+    """Whether a value is plainly a number or a string."""
+    if isinstance(node, ast.Call):
+        return ast.unparse(node.func) in ("len", "int", "str", "ord", "repr")
+    return isinstance(node, ast.Constant)
+
+
 class Files(unittest.TestCase):
 
     def test_names_and_sizes(self):
@@ -160,6 +167,37 @@ class Code(unittest.TestCase):
                 for sign, right in zip(node.ops, node.comparators):
                     if isinstance(sign, (ast.Is, ast.IsNot)):
                         self.assertIn(ast.unparse(right), ["None", "True", "False"], place)
+
+    def test_what_is_sorted_or_compared_is_plainly_numbers_or_strings(self):
+        # Moves have an order of their own, so nothing else may be given to these three.
+        for place, node in everything():
+            if isinstance(node, ast.Call) and ast.unparse(node.func) in ("sorted", "min", "max"):
+                self.assertEqual(node.keywords, [], place)
+                plain = [plainly(argument) for argument in node.args]
+                if len(plain) == 1:
+                    self.assertIsInstance(node.args[0], ast.ListComp, place)
+                    plain = [plainly(node.args[0].elt)]
+                self.assertIn(True, plain, place)
+
+    def test_classes(self):
+        for place, node in everything():
+            if isinstance(node, ast.ClassDef):
+                own = [row.name for row in node.body if isinstance(row, ast.FunctionDef)]
+                self.assertEqual(len(own), len(set(own)), place)
+                if "__getitem__" in own:
+                    self.assertIn("__iter__", own, place)
+                for row in node.body:
+                    if isinstance(row, ast.FunctionDef) and row.name == "__len__":
+                        self.assertRegex(ast.unparse(row.body[-1]), r"^return len\(", place)
+
+    def test_no_sign_that_an_own_class_takes_over(self):
+        for place, node in everything():
+            if isinstance(node, ast.AugAssign):
+                self.assertNotIsInstance(node.op, ast.Mult, place)
+            if isinstance(node, ast.Call) and ast.unparse(node.func) == "reversed":
+                self.assertRegex(ast.unparse(node.args[0]), r"^(range|list|tuple)\(", place)
+            if isinstance(node, ast.Attribute):
+                self.assertNotIn(node.attr, ["sort", "keys"], place)
 
     def test_errors(self):
         for place, node in everything():

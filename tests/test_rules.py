@@ -1,4 +1,7 @@
-"""Promises [1] and [2] for the modules that have landed, [3] for trees and scripts, and the names of the interface."""
+"""Promises [1] and [2] for all functions and for moves, [3] for trees and scripts, and the names of the interface.
+
+For bushes and libraries they are in the files of tests of these.
+"""
 
 import copy
 import importlib
@@ -8,13 +11,18 @@ import unittest
 
 import oracle
 from treeturns.arms import arm_script, counts, from_counts, normal, off_arm, shortest
+from treeturns.bush import Bush
 from treeturns.errors import (CannotMove, CannotTurn, InvalidAddress, InvalidList, InvalidMove, InvalidNumber,
-                              InvalidScript, InvalidTree, NotCarried, TurnError)
+                              InvalidScript, InvalidTree, NotCarried, TurnError, UnknownName)
+from treeturns.heights import (balanced_change, change, change_nodes, fits, is_balanced, keeps, least_nodes, leans,
+                               mends, spoiled, spoils)
+from treeturns.library import Library
 from treeturns.moves import Move, alike, parting, unmoved, widest
 from treeturns.places import after, carried, compare, drifts, fixed, span
 from treeturns.places import value as value_of
 from treeturns.scripts import lowered, opposite, pair_of, read_script, steps_of, text_of, turned
 from treeturns.trees import grown, height, hung, is_tree, joined, leaves, nodes, part, replaced, shared, size
+from treeturns.ways import arm_way, count_ways, distance, farthest, shapes, way
 
 UP, STILL = Move("((..).)", "(.(..))"), Move(".", ".")
 TWICE = Move("(((..).).)", "(.(.(..)))")
@@ -56,6 +64,23 @@ FUNCTIONS = [
     (fixed, {"move": UP}, [((0, 1), (0, 1)), ((1, 1), (1, 1))]),
     (drifts, {"move": UP}, ["up"]),
     (compare, {"one": STILL, "other": UP}, -1),
+    (is_balanced, {"tree": "((..).)", "slack": 1}, True),
+    (least_nodes, {"height": 3, "slack": 1}, 4),
+    (fits, {"tree": "((..).)", "heights": [1, 0, 0], "slack": 1}, False),
+    (leans, {"tree": "((..).)", "heights": [1, 0, 0]}, [1, 2]),
+    (change, {"move": UP}, (-1, 1)),
+    (change_nodes, {"move": UP, "amount": 1}, 3),
+    (keeps, {"move": UP, "slack": 1}, False),
+    (spoiled, {"move": UP, "slack": 2}, [0, 0, 2]),
+    (balanced_change, {"move": UP, "slack": 1}, (0, 1)),
+    (spoils, {"tree": "((..).)", "leaf": 2, "by": -1, "slack": 0}, [[0, 0, 1]]),
+    (mends, {"tree": "((..).)", "rows": [[1, 0, 0]], "slack": 1, "most": 2}, [[("right", "")]]),
+    (shapes, {"nodes": 2}, ["((..).)", "(.(..))"]),
+    (distance, {"one": "(((..).).)", "other": "(.(.(..)))"}, 2),
+    (way, {"one": "((..).)", "other": "(.(..))"}, [("right", "")]),
+    (count_ways, {"one": "(((..).).)", "other": "(.(.(..)))"}, 1),
+    (arm_way, {"one": "((.(..)).)", "other": "((..)(..))"}, [("right", ""), ("right", "r"), ("left", "")]),
+    (farthest, {"tree": "((..).)"}, (1, ["(.(..))"])),
 ]
 
 # The same for classes and methods.
@@ -75,6 +100,9 @@ INTERFACE = {
     "treeturns.moves": "alike parting widest unmoved",
     "treeturns.arms": "off_arm counts arm_script from_counts normal shortest",
     "treeturns.places": "span value carried after fixed drifts compare",
+    "treeturns.heights": """is_balanced least_nodes fits leans change change_nodes keeps spoiled balanced_change spoils
+        mends""",
+    "treeturns.ways": "shapes distance way count_ways arm_way farthest",
 }
 OWN_OF_MOVE = """before after of __call__ can __eq__ __mul__ __invert__ times __lt__ __le__ __gt__ __ge__ __repr__
 under""".split()
@@ -170,6 +198,11 @@ class Arguments(unittest.TestCase):
         steps.append(("left", "lll"))
         ups[0] = 7
         self.assertEqual(moves, [UP, UP])
+        rows = [[0, 0, 0]]
+        found = [mends("((..).)", rows, 1, 2), leans("((..).)", rows[0])]
+        rows[0][0] = 5
+        del rows[:]
+        self.assertEqual(found, [[[]], [0, 1]])
 
     def test_moves_are_unchanged_by_calls(self):
         move = Move("((.(..)).)", "((..)(..))")
@@ -177,7 +210,8 @@ class Arguments(unittest.TestCase):
         move("((.(..)).)"), move.can("."), move.times(-3), move.under("r"), move * move, ~move, move < move * move
         alike(move, UP), parting(move, UP), widest(move), unmoved(move), arm_script(move), normal(move)
         shortest(move, places, 5), value_of(move, (1, 2)), carried(move, "ll"), after(move, "rr", 9), fixed(move)
-        drifts(move), compare(move, UP)
+        drifts(move), compare(move, UP), change(move), change_nodes(move, 1), keeps(move, 1), spoiled(move, 1)
+        balanced_change(move, 1)
         for call in (lambda: move("."), lambda: move.times(None), lambda: carried(move, "")):
             with self.assertRaises(TurnError):
                 call()
@@ -195,7 +229,7 @@ class Arguments(unittest.TestCase):
         steps = [("right", "l")]
         self.assertIsNot(lowered(steps, ""), steps)
         empty = []
-        for found in (lowered(empty, "l"), opposite(empty)):
+        for found in (lowered(empty, "l"), opposite(empty), mends(".", [[0]], 0, 0)[0], way(".", "."), arm_way(".", ".")):
             self.assertEqual(found, [])
             self.assertIsNot(found, empty)
         self.assertIsNot(read_script(""), read_script(""))
@@ -227,6 +261,66 @@ class Arguments(unittest.TestCase):
         found += [item for times in (0, 1, 9) for item in after(move, Text("rl"), times) if item.__class__ is not int]
         found += [item for step in shortest(move, [Text("")], 3) + arm_script(move) for item in step]
         self.assertEqual({type(item) for item in found}, {str})
+
+
+class Whole(unittest.TestCase):
+    """[2]: equal calls tell the same, in any order and after whatever was called or changed in between."""
+
+    def test_any_order(self):
+        chance = random.Random(2)
+        calls = list(CALLS)
+        for _ in range(20):
+            chance.shuffle(calls)
+            for call, arguments, result in calls:
+                given = copy.deepcopy(arguments)
+                found = call(**given)
+                self.assertEqual(found, result, str(call))
+                spoil(found)
+                for argument in given.values():
+                    spoil(argument)
+
+    def test_larger_arguments_in_any_order(self):
+        other = "(.((..)((..).)))"
+        moves = [("(((.(..))(..)).)", "((.(.(..)))(..))"), ("((((..).).).)", "(.(.(.(..))))"),
+                 ("(((..).)((..).))", "(.((..)((..).)))")]
+        calls = [lambda made=made, call=call: call(Move(*made)) for made in moves
+                 for call in (change, widest, unmoved, normal, arm_script, fixed, drifts, lambda move: move.times(5))]
+        calls += [lambda made=made, call=call, slack=slack: call(Move(*made), slack) for made in moves
+                  for call in (keeps, spoiled, balanced_change, change_nodes) for slack in (0, 1, 2)]
+        calls += [lambda call=call: call("(((..).)((..).))", other) for call in (way, arm_way, distance, count_ways)]
+        calls += [lambda: mends("(((((..).).).).)", [[0] * 6, [1, 0, 0, 0, 0, 0]], 1, 6), lambda: shapes(5),
+                  lambda: farthest(other), lambda: spoils(other, 2, -1, 1), lambda: least_nodes(30, 1),
+                  lambda: shortest(Move(*moves[1]), ["r", ""], 5), lambda: turned(moves[1][0], [("right", "")] * 3)]
+        kept = [repr(call()) for call in calls]
+        chance = random.Random(3)
+        for _ in range(4):
+            order = list(range(len(calls)))
+            chance.shuffle(order)
+            for index in order:
+                found = calls[index]()
+                self.assertEqual(repr(found), kept[index])
+                spoil(found)
+
+    def test_kinds_do_not_mix(self):
+        # What is equal to a number in Python is none here, also behind a call with this number.
+        for call, wrong in ((lambda number: least_nodes(number, 1), True), (lambda number: shapes(number), True),
+                            (lambda number: spoils("(..)", number, 1, 1), False), (lambda number: keeps(UP, number), True),
+                            (lambda number: mends(".", [[0]], number, 1), False), (lambda number: UP.times(number), True),
+                            (lambda number: change_nodes(UP, number), True)):
+            for _ in range(2):
+                call(int(wrong))
+                with self.assertRaises(InvalidNumber) as caught:
+                    call(wrong)
+                self.assertIs(caught.exception.value, wrong)
+
+
+def spoil(value):
+    """Change all lists within a value."""
+    if isinstance(value, (list, tuple)):
+        for item in value:
+            spoil(item)
+    if isinstance(value, list):
+        value[:] = ["spoilt", 0] + value[1:]
 
 
 class Order(unittest.TestCase):
@@ -375,7 +469,9 @@ class Order(unittest.TestCase):
         for _ in range(100000):
             deep = [deep]
         for value in (ring, (ring,), deep, [(deep, ring)], [("right", deep)], {"a": ring}):
-            for call in (lambda: size(value), lambda: hung(".", value), lambda: turned(value, value)):
+            for call in (lambda: size(value), lambda: hung(".", value), lambda: turned(value, value),
+                         lambda: is_balanced(value, value), lambda: leans(value, value), lambda: farthest(value),
+                         lambda: mends(value, value, value, value), lambda: way(".", value), lambda: Bush(value)):
                 with self.assertRaises(InvalidTree) as caught:
                     call()
                 self.assertIs(caught.exception.value, value)
@@ -387,15 +483,26 @@ class Order(unittest.TestCase):
                 part(".", value)
             with self.assertRaises(InvalidList):
                 grown(".", value)
-            for call in (lambda: alike(UP, value), lambda: widest(value), lambda: after(value, value, value)):
+            for call in (lambda: alike(UP, value), lambda: widest(value), lambda: after(value, value, value),
+                         lambda: change(value), lambda: keeps(value, value), lambda: Library().put("a", value)):
                 with self.assertRaises(InvalidMove):
                     call()
             self.assertIs(UP == value, False)
-            for call in (lambda: UP.times(value), lambda: value_of(UP, value), lambda: shortest(UP, [""], value)):
+            for call in (lambda: UP.times(value), lambda: value_of(UP, value), lambda: shortest(UP, [""], value),
+                         lambda: spoiled(UP, value), lambda: shapes(value), lambda: change_nodes(UP, value),
+                         lambda: spoils(".", value, value, value), lambda: spoils(".", 0, value, value)):
                 with self.assertRaises(InvalidNumber):
                     call()
-            for call in (lambda: shortest(UP, value, 1), lambda: from_counts(value, value)):
+            for call in (lambda: shortest(UP, value, 1), lambda: from_counts(value, value),
+                         lambda: fits("((..).)", value, 1), lambda: leans(".", [value]), lambda: mends(".", value, 1, 1),
+                         lambda: mends(".", [value], value, value)):
                 with self.assertRaises(InvalidList):
+                    call()
+            self.assertIs(value in Bush("."), False)
+            self.assertIs(value in Library(), False)
+            self.assertIs(Bush(".") == value or Library() == value, False)
+            for call in (lambda: Library().drop(value), lambda: Library().together(value)):
+                with self.assertRaises(UnknownName):
                     call()
 
 

@@ -6,6 +6,14 @@ from treeturns.trees import check_address, check_tree, from_leaves, grown, hung,
 from treeturns.wholes import check_whole
 
 
+def moved(tree, before, after):
+    """What the move of two trees makes of a tree; CannotMove if it cannot be done."""
+    trees = hung(tree, before)
+    if trees is None:
+        raise CannotMove(tree)
+    return grown(after, trees)
+
+
 class Move:
     """A move makes of every tree into which `before` grows what `after` grows into by the same list."""
 
@@ -36,10 +44,7 @@ class Move:
 
     def __call__(self, tree):
         """The result of the move on a tree."""
-        trees = hung(tree, self._before)
-        if trees is None:
-            raise CannotMove(tree)
-        return grown(self._after, trees)
+        return moved(tree, self._before, self._after)
 
     def can(self, tree):
         """Whether the move can be done on a tree."""
